@@ -266,6 +266,23 @@ func TestGoesOn(t *testing.T) {
 	is(t, d, device.Running, image)
 }
 
+// P21.1: a device that was reset behind the last byte of another image begins anew with its packet.
+func TestBeginsAnew(t *testing.T) {
+	image := testkit.Sample(300, 2)
+	init := signer.Init(image, 7)
+	f := made(t, 34)
+	bank.Bank{Flash: f, First: 18}.Write(0, testkit.Sample(300, 3))
+	settings.Save(f, rec{Phase: record.Receiving, Done: 300, Init: init})
+	d := started(t, f, false)
+	is(t, d, device.Waiting, nil)
+	if r, _, _ := settings.Load(f); r.Phase != record.Receiving || r.Done != 0 || !bytes.Equal(r.Init, init) {
+		t.Error(r)
+	}
+	l := parts(t, init, image)
+	answers(t, d, l[1], answer(opcode.Create, opcode.Success), answer(opcode.Execute, opcode.Success))
+	is(t, d, device.Running, image)
+}
+
 // P21.2: an image that cannot be copied leaves the device waiting, and complete.
 func TestStuck(t *testing.T) {
 	image := testkit.Sample(300, 2)

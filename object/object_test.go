@@ -171,7 +171,7 @@ func TestNewOnNothing(t *testing.T) {
 func TestNewGoesOn(t *testing.T) {
 	image := testkit.Sample(3000, 1)
 	init := signer.Init(image, 7)
-	for _, n := range []int{0, 1024, 2048, 3000} {
+	for _, n := range []int{0, 1, 1024, 2048, 3000} {
 		b := newBench(t)
 		b.s.Memory.Start(init)
 		b.s.Memory.Put(image[:n])
@@ -184,6 +184,7 @@ func TestNewGoesOn(t *testing.T) {
 			b.is(create(2, 1024), opcode.NotNow)
 		} else {
 			b.is(create(2, min(1024, 3000-n)), opcode.Success)
+			b.is(sum, opcode.Success, of(image[:n])...)
 		}
 		if b.s.starts != 0 {
 			t.Error("the store began anew")
@@ -600,6 +601,18 @@ func TestImageFails(t *testing.T) {
 	b.is(sum, opcode.Success, of(image)...)
 	b.complete(false)
 	b.is(create(2, 1), opcode.Param)
+	b.is(create(2, 0), opcode.Param)
+	b.s.image = api.OK
+	b.complete(true)
+	b.is(create(2, 1), opcode.NotNow)
+	image[7] ^= 1
+	b.s.image = api.ErrBounds
+	b.whole(signer.Init(testkit.Sample(500, 8), 8), nil)
+	b.send(object.Data, image)
+	b.is(execute, opcode.Failed, byte(api.ErrBounds))
+	b.s.image = api.OK
+	b.complete(false) // all bytes are kept, but another image's
+	b.is(create(2, 1), opcode.Param)
 }
 
 // P17.4
@@ -668,6 +681,8 @@ func TestMemory(t *testing.T) {
 	s.Put([]byte{4})
 	given[0] = 9
 	init, n := s.Load()
+	init[1] = 8
+	init, n = s.Load()
 	image, e := s.Image()
 	if !bytes.Equal(init, []byte{1, 2, 3}) || n != 4 || !bytes.Equal(image, []byte{1, 2, 3, 4}) || e != api.OK {
 		t.Error(init, n, image, e)

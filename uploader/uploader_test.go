@@ -111,6 +111,20 @@ func TestPhases(t *testing.T) {
 	is(t, u, true, 10)
 }
 
+// P22.1: objects around whole Writes.
+func TestWrites(t *testing.T) {
+	for _, n := range []int{1, 59, 60, 61, 119, 120, 121} {
+		b := testkit.Sample(n, 4)
+		u := made(t, b, b)
+		u.Send()
+		greeted(u)
+		sends(t, u, append(sending(1, b), []byte{4})...)
+		offered(u)
+		looked(u, 0, 0)
+		sends(t, u, sending(2, b)...)
+	}
+}
+
 // P22.1
 func TestArgumentsAreNotKept(t *testing.T) {
 	init, image := []byte{1, 2}, []byte{3, 4}
